@@ -692,13 +692,51 @@ func TestMakesBack(t *testing.T) {
 	}
 }
 
-// P12.1: Do of no state is refused, whatever the event; a refused event leaves the very state.
+// P12.1: Do of no state is refused: with Check's error of an event that may not be, else with ErrNone.
 func TestDoNone(t *testing.T) {
-	for _, e := range append(right(), api.Event{Kind: 7}, api.Event{Kind: 0, D: 1}) {
+	for _, e := range append(right(), of(0, 0, 0, 0, 0, 0), of(1, 0, 0, 0, 0, 0), of(2, 0, 0, 0, 0, 0), of(3, 0, 0, 0, 0, 0), of(4, 0, 0, 0, 0, 0), of(5, 0, 0, 0, 0, 0)) {
 		if err := Do(nil, e); err != api.ErrNone {
-			t.Error(e, err)
+			t.Error(e, err, api.ErrNone)
 		}
 	}
+	for _, c := range []struct {
+		e    api.Event
+		want error
+	}{
+		{of(-1, 0, 0, 0, 0, 0), api.ErrKind},
+		{of(6, 0, 0, 0, 0, 0), api.ErrKind},
+		{of(6, -1, -1, -1, 1, 1), api.ErrKind},
+		{of(0, 0, 0, 0, 1, 0), api.ErrForm},
+		{of(0, 120, 2, 3, 0, 1), api.ErrForm},
+		{of(2, 0, 0, 0, 0, 1), api.ErrForm},
+		{of(3, 0, 0, 0, 0, -1), api.ErrForm},
+		{of(4, 1, 0, 0, 0, 0), api.ErrForm},
+		{of(5, 0, 0, 0, -1, 0), api.ErrForm},
+		{of(0, 0, 0, -1, 0, 0), api.ErrRange},
+		{of(1, -1, 0, 0, 0, 0), api.ErrRange},
+		{of(1, 0, 11, 0, 0, 0), api.ErrRange},
+		{of(2, 0, 3, 0, 0, 0), api.ErrRange},
+		{of(3, 2, 0, 0, 0, 0), api.ErrRange},
+		{of(4, 0, 7, 0, 0, 0), api.ErrRange},
+		{of(5, 120, 0, 0, 0, 0), api.ErrRange},
+	} {
+		if err := Do(nil, c.e); err != c.want {
+			t.Error(c.e, err, c.want)
+		}
+	}
+}
+
+// P12.1: Do of no state answers as the chapter says of each pair of numbers about the ends.
+func TestDoNoneAll(t *testing.T) {
+	varied(func(e api.Event) {
+		want := reckonedCheck(e)
+		if want == nil {
+			want = api.ErrNone
+		}
+		if err := Do(nil, e); err != want {
+			t.Fatal(e, err, want)
+		}
+	})
 }
 
 // P12.1: an event undone, by its kind; of another kind it is itself.
